@@ -1,0 +1,250 @@
+"""The rules of the language that can be read off the files of the package, and its interface."""
+
+import ast
+import builtins
+import os
+import re
+import unittest
+
+HERE = os.path.dirname(os.path.abspath(__file__))
+FOLDER = os.path.join(os.path.dirname(HERE), "truthwell")
+
+BUILTINS = ("len range enumerate zip min max sum abs sorted reversed int str bool bytes list tuple dict set frozenset "
+            "isinstance ord repr any all divmod pow iter type super ValueError True False None staticmethod classmethod").split()
+METHODS = ("append clear copy count endswith extend find get index insert isalnum isalpha isdigit islower isspace isupper "
+           "items join keys ljust lower lstrip partition pop remove replace reverse rfind rjust rpartition rsplit rstrip "
+           "setdefault split splitlines startswith strip update upper values zfill bit_length").split()
+DOUBLE = ("__init__ __eq__ __repr__ __str__ __len__ __call__ __iter__ __bool__ __contains__ __getitem__").split()
+WORDS = ("typing typing_extensions enum Enum IntEnum StrEnum Flag IntFlag Generic Protocol ABC ABCMeta namedtuple NamedTuple "
+         "TypedDict TYPE_CHECKING abstractmethod register mro elements open input law version_info with_traceback add_note "
+         "attrgetter breakpoint compile copyright credits delattr dir eval exec exit gc getattr globals hasattr help id "
+         "importlib license locals methodcaller os quit setattr vars sys chr format _wall _WallAttr global nonlocal try "
+         "except async await match").split()
+NODES = (ast.GeneratorExp, ast.Div, ast.Pow, ast.Mod, ast.Global, ast.Nonlocal, ast.Try, ast.With, ast.Import, ast.Match, ast.Await,
+         ast.NamedExpr, ast.Delete, ast.AsyncFor, ast.AnnAssign)
+
+INTERFACE = {
+    "checks": {"is_integer": ["value"], "is_within": ["value", "least", "most"], "is_name": ["value"]},
+    "papers": {"fixed": ["value"], "Paper": {"__init__": ["self", "word"], "__eq__": None, "__bool__": None},
+               "Denial": {"__init__": ["self", "word"], "__eq__": None, "__bool__": None}},
+    "rules": {"Rule": {"__init__": ["self", "answerers", "heaps", "rows"], "behind": ["self", "stand", "who", "true", "told"],
+                       "let": ["self", "stand", "who", "true"], "read": ["cls", "text"], "__len__": None, "__eq__": None,
+                       "__str__": None}},
+    "pasts": {"after_past": ["rule", "stand", "past"], "is_lawful": ["rule", "stand", "past"], "signs_of": ["past"],
+              "lawful_pasts": ["rule", "stand", "asked"], "counted_by_lies": ["rule", "stand", "asked"], "rearranged": ["past"]},
+    "ready": {"truthful": ["answerers", "heaps"], "always_false": ["answerers", "heaps"], "anything": ["answerers", "heaps"],
+              "at_most": ["lies", "answerers", "heaps"], "never_running": ["answerers", "heaps"],
+              "one_in": ["many", "answerers", "heaps"], "after_truths": ["many", "answerers", "heaps"],
+              "at_turns": ["many", "answerers", "heaps"], "false_yes": ["lies", "answerers"], "named_tells": ["heaps"]},
+    "joined": {"both": ["one", "other"], "either": ["one", "other"], "each_own": ["rules"]},
+    "least_rule": {"like_stands": ["rule"], "least_form": ["rule", "stands"],
+                   "parting": ["rule", "stand", "other", "other_stand"]},
+    "freer": {"NoFreer": {"__init__": ["self", "pairs"]}, "Freer": {"__init__": ["self", "past"]},
+              "compared": ["rule", "stand", "other", "other_stand"], "freer_table": ["rule"],
+              "shows_compared": ["rule", "stand", "other", "other_stand", "value"]},
+    "order": {"OrderFree": {"__init__": ["self", "stands"]}, "Ordered": {"__init__": ["self", "past", "other"]},
+              "order_free": ["rule", "stand"], "shows_order": ["rule", "stand", "value"]},
+    "questions": {"Question": {"__init__": ["self", "who", "heaps"], "parts": ["self", "x", "y"], "read": ["cls", "text"],
+                               "__len__": None, "__eq__": None, "__str__": None}},
+    "stocks": {"Stock": {"__init__": ["self", "things", "answerers", "heaps", "questions"], "read": ["cls", "text"],
+                         "splits": ["things"], "singles": ["things"], "__len__": None, "__iter__": None, "__getitem__": None,
+                         "__eq__": None, "__str__": None}},
+    "wishes": {"Wish": {"__init__": ["self", "classes", "most"], "of": ["classes"], "left": ["most"], "each": ["things"],
+                        "groups": ["self", "things"], "is_met": ["self", "some"], "read": ["cls", "text"], "__eq__": None,
+                        "__str__": None}},
+    "cases": {"Case": {"__init__": ["self", "stock", "rule", "firsts", "wish"], "alike": ["stock", "rule", "wish"],
+                       "read": ["cls", "text"], "__eq__": None, "__str__": None}},
+    "changed": {"renamed": ["case", "order"], "narrowed": ["case", "things"], "picked": ["case", "numbers"],
+                "turned": ["case", "number", "heaps"], "asked_of": ["case", "order"], "with_rule": ["case", "rule", "firsts"],
+                "with_wish": ["case", "wish"], "least_case": ["case"]},
+    "twins": {"twins": ["case"], "untwinned": ["case"], "never_told": ["case"]},
+    "two_cases": {"two_asked": ["one", "other"], "one_asked": ["one", "other"]},
+    "situations": {"first": ["case"], "open_things": ["case", "situation"], "is_settled": ["case", "situation"],
+                   "can_come": ["case", "situation", "number"], "after": ["case", "situation", "number", "told"],
+                   "behind_all": ["case", "situation", "numbers", "hearing"], "come_about": ["case"]},
+    "roads": {"open_by_pasts": ["case", "numbers", "hearing"], "hearings": ["case", "numbers"]},
+}
+
+
+def sources():
+    """For each file its name, its text and its tree."""
+    found = {}
+    for name in sorted(os.listdir(FOLDER)):
+        if name != "__pycache__":
+            with open(os.path.join(FOLDER, name), encoding="utf-8") as file:
+                text = file.read()
+            found[name[:-3]] = (text, ast.parse(text))
+    return found
+
+
+def arguments(function):
+    return [arg.arg for arg in function.args.args]
+
+
+def top_names(tree):
+    """What a file binds at module level: (imports, classes, all names)."""
+    imports, classes, others = [], [], []
+    for node in tree.body:
+        if isinstance(node, ast.ImportFrom):
+            imports += [alias.name for alias in node.names]
+        elif isinstance(node, ast.ClassDef):
+            classes.append(node.name)
+        elif isinstance(node, ast.FunctionDef):
+            others.append(node.name)
+        elif isinstance(node, ast.Assign):
+            others += [target.id for target in node.targets]
+    return imports, classes, others
+
+
+class Language(unittest.TestCase):
+    def setUp(self):
+        self.sources = sources()
+
+    def each(self):
+        return [(name, text, tree) for name, (text, tree) in self.sources.items()]
+
+    def test_files(self):
+        for name in os.listdir(FOLDER):
+            self.assertTrue(re.fullmatch(r"[a-z_0-9]+\.py|__pycache__", name), name)
+        self.assertLessEqual(len(self.sources), 100)
+        for name, text, tree in self.each():
+            self.assertTrue(all(" " <= sign <= "~" or sign == "\n" for sign in text))
+            self.assertLessEqual(text.count("\n"), 399)
+            self.assertTrue(all(len(line) <= 120 for line in text.split("\n")))
+            self.assertTrue(text.endswith("\n") and not text.endswith("\n\n"))
+            self.assertIsNotNone(ast.get_docstring(tree))
+
+    def test_functions(self):
+        for name, text, tree in self.each():
+            for node in ast.walk(tree):
+                if isinstance(node, ast.FunctionDef):
+                    self.assertLessEqual(node.end_lineno - node.lineno + 1, 40, node.name)
+                    names = [ast.unparse(item) for item in node.decorator_list]
+                    self.assertIn(names, ([], ["staticmethod"], ["classmethod"]))
+                    if not node.name.startswith("__"):
+                        self.assertIsNotNone(ast.get_docstring(node), node.name)
+
+    def test_top(self):
+        allowed = (ast.ImportFrom, ast.ClassDef, ast.FunctionDef, ast.Assign)
+        for name, text, tree in self.each():
+            self.assertTrue(all(isinstance(node, allowed) for node in tree.body[1:]))
+            imports, classes, others = top_names(tree)
+            everything = imports + classes + others
+            self.assertEqual(len(everything), len(set(everything)))
+            self.assertFalse(set(everything) & set(dir(builtins)))
+            for node in tree.body:
+                if isinstance(node, ast.Assign):
+                    ast.literal_eval(node.value)
+
+    def test_imports(self):
+        graph = {}
+        for name, text, tree in self.each():
+            used = {node.id for node in ast.walk(tree) if isinstance(node, ast.Name)}
+            graph[name] = []
+            for node in ast.walk(tree):
+                if isinstance(node, ast.ImportFrom):
+                    self.assertIn(node, tree.body)
+                    package, module = node.module.split(".")
+                    self.assertEqual((package, node.level), ("truthwell", 0))
+                    graph[name].append(module)
+                    imports, classes, others = top_names(self.sources[module][1])
+                    for alias in node.names:
+                        self.assertIn(alias.name, classes + others)
+                        self.assertIsNone(alias.asname)
+                        self.assertIn(alias.name, used, f"{alias.name} is not used")
+        while graph:
+            free = [name for name in graph if not set(graph[name]) & set(graph)]
+            self.assertTrue(free, f"a ring of imports: {sorted(graph)}")
+            graph = {name: graph[name] for name in graph if name not in free}
+
+    def test_names(self):
+        for name, text, tree in self.each():
+            imports, classes, others = top_names(tree)
+            for node in ast.walk(tree):
+                bound = None
+                if isinstance(node, ast.arg):
+                    bound = node.arg
+                elif isinstance(node, ast.Name) and isinstance(node.ctx, ast.Store):
+                    bound = node.id
+                elif isinstance(node, ast.Name):
+                    self.assertTrue(not hasattr(builtins, node.id) or node.id in BUILTINS, node.id)
+                    self.assertNotEqual(node.id, "_")
+                elif isinstance(node, ast.FunctionDef) and node.name.startswith("__"):
+                    self.assertIn(node.name, DOUBLE)
+                if bound is not None:
+                    self.assertFalse(hasattr(builtins, bound) or bound in imports + classes, bound)
+                    self.assertFalse(bound.startswith("__"))
+
+    def test_words(self):
+        for name, text, tree in self.each():
+            plain = re.sub(r'"""[\s\S]*?"""', "", text)
+            words = set(re.findall(r"\w+", plain))
+            self.assertFalse(words & set(WORDS), words & set(WORDS))
+            self.assertNotIn("%", plain)
+            self.assertNotIn("(type)", text)
+            for at in re.finditer(r"\btype\b.?", plain):
+                self.assertEqual(at.group(), "type(")
+            self.assertFalse(re.search(r"Meta|metaclass|dataclass|overload|contextmanager", text))
+
+    def test_nodes(self):
+        for name, text, tree in self.each():
+            for node in ast.walk(tree):
+                self.assertNotIsInstance(node, NODES)
+                if isinstance(node, ast.Constant):
+                    self.assertIn(type(node.value), (int, str, bool, type(None)))
+                if isinstance(node, ast.Compare) and any(isinstance(op, (ast.Is, ast.IsNot)) for op in node.ops):
+                    right = ast.unparse(node.comparators[0])
+                    self.assertTrue(right in ("None", "True", "False") or right.startswith("type("), right)
+
+    def test_methods(self):
+        builtin = {word for kind in (str, list, dict, set, tuple, int, bytes) for word in dir(kind)}
+        own, read = set(), set()
+        for name, text, tree in self.each():
+            for node in ast.walk(tree):
+                if isinstance(node, ast.ClassDef):
+                    own |= {item.name for item in node.body if isinstance(item, ast.FunctionDef)}
+                    own |= {item.targets[0].id for item in node.body if isinstance(item, ast.Assign)}
+                if isinstance(node, ast.Attribute):
+                    if isinstance(node.ctx, ast.Store):
+                        own.add(node.attr)
+                        self.assertNotIn(node.attr, builtin)
+                    else:
+                        read.add(node.attr)
+        self.assertFalse((read & builtin) - set(METHODS) - {"__init__", "add"})
+        self.assertFalse(read - own - builtin, "read, but never assigned")
+        self.assertFalse({"add", "keys", "sort"} & own)
+
+    def test_sets(self):
+        for name, text, tree in self.each():
+            allowed, stored = set(), set()
+            for node in ast.walk(tree):
+                if isinstance(node, ast.Call) and isinstance(node.func, ast.Name) and node.func.id in ("len", "sorted"):
+                    allowed |= {id(item) for item in node.args} if not node.keywords else set()
+                if isinstance(node, ast.Assign):
+                    allowed.add(id(node.value))
+            for node in ast.walk(tree):
+                is_call = isinstance(node, ast.Call) and isinstance(node.func, ast.Name) and node.func.id == "set"
+                if isinstance(node, (ast.Set, ast.SetComp)) or is_call:
+                    self.assertIn(id(node), allowed, ast.unparse(node))
+
+    def test_interface(self):
+        for module, wanted in INTERFACE.items():
+            tree = self.sources[module][1]
+            bodies = {node.name: node for node in tree.body if isinstance(node, (ast.FunctionDef, ast.ClassDef))}
+            for name, told in wanted.items():
+                with self.subTest(module=module, name=name):
+                    if isinstance(told, list):
+                        self.assertEqual(arguments(bodies[name]), told)
+                    else:
+                        self.check_class(bodies[name], told)
+
+    def check_class(self, node, told):
+        methods = {item.name: item for item in node.body if isinstance(item, ast.FunctionDef)}
+        for name, names in told.items():
+            self.assertIn(name, methods)
+            if names is not None:
+                self.assertEqual(arguments(methods[name]), names)
+
+
+if __name__ == "__main__":
+    unittest.main()

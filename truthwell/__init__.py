@@ -1,0 +1,1 @@
+"""Truthwell: asking somebody who may lie, by a rule."""
