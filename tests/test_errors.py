@@ -143,6 +143,9 @@ class Papers(unittest.TestCase):
         self.assertFalse(Freer([]) == Denial("freer", []))
         self.assertTrue(Denial("freer", []) == Denial("freer", ()))
         self.assertTrue(NoFreer([[0, 1]]) == NoFreer(((0, 1),)))
+        for other in (Denial("y", 1), Denial("x", 2), Denial("x"), Paper("x", 1), Ordered(1, 1), None):
+            self.assertFalse(Denial("x", 1) == other)
+            self.assertTrue(Denial("x", 1) != other)
         self.assertFalse(Freer([]) == NoFreer([]))
 
     def test_copied(self):

@@ -80,6 +80,21 @@ class Both(Checks, unittest.TestCase):
         done += [self.check(one, other, 2) for one, other in zip(rules, rules[1:])]
         self.assertTrue(10 < sum(done) < len(done) - 10)
 
+    def test_falling_on(self):
+        """What does not stay makes what leads to it not stay, whichever is met first."""
+        rules = made_rules(30, 240, most=6)
+        done = [self.check(one, other, 3) for one, other in zip(rules, rules[1:])]
+        self.assertTrue(20 < sum(done) < len(done) - 20)
+        one = Rule.read("1 2 | 1 2 3 1 | 3 - - 3 | 0 - - 0 | 2 - - 4 | 0 - - 0")
+        for dead in (1, 2, 3, 4):
+            rows = [[stand] * 4 for stand in range(5)]
+            rows = [[entry if stand != dead else [None, entry][place in (1, 2)] for place, entry in enumerate(one.rows[stand])]
+                    for stand in range(5)]
+            rows[dead] = [None, dead, dead, None]
+            other = Rule(1, 2, [[entry if entry is not None else stand for entry in row] if stand != dead else row
+                                for stand, row in enumerate(rows)])
+            self.check(one, other, 5)
+
     def test_plain(self):
         self.assertEqual(both(anything(), at_most(3)), at_most(3))
         self.assertEqual(both(truthful(2, 3), anything(2, 3)), truthful(2, 3))

@@ -256,6 +256,12 @@ class Shown(Checks, unittest.TestCase):
         self.assertIs(shows_compared(RUNS, 1, one, 0, Freer((lie, truth, lie))), False)
         self.assertIs(shows_compared(one, 0, RUNS, 0, Freer((lie, truth, lie))), False)
 
+    def test_more_answerers_than_heaps(self):
+        one, other = truthful(4), Rule(4, 2, [[0, None, None, 0] * 3 + [None, 0, 0, None]])
+        self.assertEqual(compared(one, 0, other, 0), Freer([(3, 0, 0)]))
+        self.assertIs(shows_compared(one, 0, other, 0, Freer([(2, 1, 1), (3, 1, 1)])), True)
+        self.assertIs(shows_compared(one, 0, other, 0, Freer([(2, 1, 1), (4, 1, 1)])), False)
+
     def test_any_value(self):
         right = compared(one_in(3), 0, RUNS, 0)
         for value in ODD + [right.pairs, Paper("nofreer", right.pairs), Denial("freer", ()), [right], NoFreer, Freer]:

@@ -49,6 +49,42 @@ def fewest(rule, stand, most):
     return None
 
 
+def fewest_by_counts(rule, stand, most):
+    """The same, by how many arrangements of so many of each triple are lawful, and how many there are."""
+    triples = triples_of(rule)
+    lawful = {(0,) * len(triples): {stand: 1}}
+    total = {(0,) * len(triples): 1}
+    for length in range(1, most + 1):
+        new_lawful, new_total = {}, {}
+        for counts, ends in lawful.items():
+            for k, triple in enumerate(triples):
+                more = counts[:k] + (counts[k] + 1,) + counts[k + 1:]
+                new_total[more] = new_total.get(more, 0) + total[counts]
+                found = new_lawful.setdefault(more, {})
+                for end, many in ends.items():
+                    behind = end_of(rule, end, [triple])
+                    if behind is not None:
+                        found[behind] = found.get(behind, 0) + many
+        lawful, total = new_lawful, new_total
+        if any(0 < sum(ends.values()) < total[counts] for counts, ends in lawful.items()):
+            return length
+    return None
+
+
+def nearly_free(draws):
+    """A rule in which each triple leads on by so many stands, or stays; but for one or two entries."""
+    stands = 3 + draws.below(6)
+    steps = [draws.below(2) * draws.below(stands) for _ in range(4)]
+    last = draws.below(2) == 0
+    rows = [[min(stand + step, stands - 1) if last else (stand + step) % stands for step in steps] for stand in range(stands)]
+    for _ in range(1 + draws.below(2)):
+        rows[stands - 1 - draws.below(2)][draws.below(4)] = draws.pick([None, None, stands - 1])
+    for row in rows:
+        row[0] = 0 if row[0] is None and row[1] is None else row[0]
+        row[3] = 0 if row[2] is None and row[3] is None else row[3]
+    return Rule(1, 2, rows)
+
+
 def commutes(rule, stand):
     """By the two-triple words of the document."""
     likes = like_stands(rule)
@@ -87,6 +123,26 @@ class OrderFreeness(Checks, unittest.TestCase):
                 self.check(rule, stand, 4)
         for rule in made_rules(43, 15, 2, 2, 2) + made_rules(44, 8, 1, 3, 2):
             self.check(rule, 0, 2)
+
+    def test_as_few_as_can_be(self):
+        rules = made_rules(45, 60, most=7) + made_rules(46, 10, 2, 2, 4) + [nearly_free(Draws(seed)) for seed in range(150)]
+        lengths = []
+        for rule in rules:
+            found = order_free(rule, 0)
+            self.assertIs(shows_order(rule, 0, found), True)
+            wanted = fewest_by_counts(rule, 0, 9 if rule.answerers == 1 else 4)
+            if wanted is not None:
+                lengths.append(wanted)
+                self.assertEqual(len(found.past), wanted)
+            elif not found:
+                self.assertGreater(len(found.past), 9 if rule.answerers == 1 else 4)
+        self.assertGreaterEqual(max(lengths), 5)
+
+    def test_which_of_two_orders(self):
+        # Behind T, L only lies are let, behind L, T only truths: each is told apart by one answer.
+        rule = Rule.read("1 2 | 1 2 2 1 | 1 3 3 1 | 4 2 2 4 | - 3 3 - | 4 - - 4")
+        self.assertEqual(len(order_free(rule, 0).past), 3)
+        self.assertIs(shows_order(rule, 0, order_free(rule, 0)), True)
 
     def test_ready(self):
         for rule in (truthful(), always_false(), anything(2, 3), at_most(5), false_yes(3), at_most(63, 4, 3)):
