@@ -138,6 +138,13 @@ class OrderFreeness(Checks, unittest.TestCase):
                 self.assertGreater(len(found.past), 9 if rule.answerers == 1 else 4)
         self.assertGreaterEqual(max(lengths), 5)
 
+    def test_near_and_far(self):
+        # Two triples at stand 0 are told apart by four more; four triples on, at stand 6, two are by one more.
+        rule = Rule.read("1 2 | 1 2 3 3 | 4 11 4 4 | 10 4 4 4 | 4 4 4 4 | 5 5 5 5 | 6 6 6 6 | 7 8 10 10 | 10 9 10 10 | 10 10 10 10 "
+                         "| 10 10 - 10 | 10 10 10 10 | 12 11 11 11 | 13 12 12 12 | 14 13 13 13 | - 14 14 14")
+        self.assertEqual(fewest_by_counts(rule, 0, 9), 6)
+        self.assertEqual(len(order_free(rule, 0).past), 6)
+
     def test_which_of_two_orders(self):
         # Behind T, L only lies are let, behind L, T only truths: each is told apart by one answer.
         rule = Rule.read("1 2 | 1 2 2 1 | 1 3 3 1 | 4 2 2 4 | - 3 3 - | 4 - - 4")

@@ -18,13 +18,10 @@ def is_done(case, situation):
 
 def moved(case, situation, question, told):
     """The situation behind an answer."""
-    heaps = case.heaps
     rows = case.rule.rows
-    found = []
-    for stand, true in zip(situation, question.heaps):
-        behind = None if stand == OUT else rows[stand][place_of(heaps, question.who, true, told)]
-        found.append(OUT if behind is None else behind)
-    return tuple(found)
+    places = [place_of(case.heaps, question.who, true, told) for true in range(case.heaps)]
+    behind = [None if stand == OUT else rows[stand][places[true]] for stand, true in zip(situation, question.heaps)]
+    return tuple([OUT if stand is None else stand for stand in behind])
 
 
 def is_open(situation):
