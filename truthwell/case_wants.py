@@ -24,11 +24,16 @@ def want_question(case, number):
         raise NoQuestion(number)
 
 
+def is_situation(case, value):
+    """Whether a value is a list of a stand, or -1, for each thing."""
+    if not is_list(value) or len(value) != case.things:
+        return False
+    return all([is_within(stand, -1, len(case.rule.rows) - 1) for stand in value])
+
+
 def want_situation(case, situation, part):
-    """Raises BadSituation for what is no list of a stand, or -1, for each thing."""
-    if not is_list(situation) or len(situation) != case.things:
-        raise BadSituation(part)
-    if not all([is_within(stand, -1, len(case.rule.rows) - 1) for stand in situation]):
+    """Raises BadSituation for what is no situation of the case."""
+    if not is_situation(case, situation):
         raise BadSituation(part)
 
 

@@ -6,7 +6,7 @@ from truthwell.papers import Paper
 from truthwell.past_values import is_past_of
 from truthwell.rule_wants import want_rule
 from truthwell.rule_wants import want_two_stands
-from truthwell.two_stands import parting_lengths
+from truthwell.shelves import freer_rows
 from truthwell.two_stands import walked
 from truthwell.ways_on import is_let_all
 
@@ -37,14 +37,14 @@ def compared(rule, stand, other, other_stand):
 def freer_table(rule):
     """For each stand, for each one, whether the former is no freer than the latter."""
     want_rule(rule, "rule")
-    return tuple([tuple([length is None for length in row]) for row in parting_lengths(rule)])
+    return tuple([tuple(row) for row in freer_rows(rule)])
 
 
 def shows_compared(rule, stand, other, other_stand, value):
     """Whether any value is a NoFreer or a Freer that is right for the two stands."""
     want_two_stands(rule, stand, other, other_stand)
     if isinstance(value, NoFreer):
-        return are_pairs(rule, other, value.pairs) and is_closed(rule, other, value.pairs, (stand, other_stand))
+        return are_pairs(rule, other, value.pairs) and is_closed(rule, other, value.pairs, [(stand, other_stand)])
     if isinstance(value, Freer):
         return is_freer_past(rule, stand, other, other_stand, value.past)
     return False
@@ -63,11 +63,11 @@ def is_pair(rule, other, pair):
             and is_within(pair[0], 0, len(rule.rows) - 1) and is_within(pair[1], 0, len(other.rows) - 1))
 
 
-def is_closed(rule, other, pairs, first):
-    """Whether no pair stands twice, the first one is there, and none is told apart by one triple or leads out."""
-    if len(set(pairs)) != len(pairs) or first not in pairs:
-        return False
+def is_closed(rule, other, pairs, wanted):
+    """Whether no pair stands twice, the wanted ones are there, and none is told apart by one triple or leads out."""
     table = {pair: True for pair in pairs}
+    if len(table) != len(pairs) or not all([pair in table for pair in wanted]):
+        return False
     for one, two in pairs:
         for left, right in zip(rule.rows[one], other.rows[two]):
             if left is not None and (left, right) not in table:

@@ -45,3 +45,9 @@ def want_number(value, least, most, part):
     """Raises BadNumber for what is no integer from least to most."""
     if not is_within(value, least, most):
         raise BadNumber(part)
+
+
+def want_number_or_none(value, least, most, part):
+    """Raises BadNumber for what is neither None nor an integer from least to most."""
+    if value is not None:
+        want_number(value, least, most, part)

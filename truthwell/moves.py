@@ -26,7 +26,7 @@ def moved(case, situation, question, told):
 
 def is_open(situation):
     """Whether something is open."""
-    return any([stand != OUT for stand in situation])
+    return max(situation) != OUT
 
 
 def answers_on(case, situation, question):
@@ -35,8 +35,28 @@ def answers_on(case, situation, question):
     return [(told, behind) for told, behind in pairs if is_open(behind)]
 
 
-def all_behind(case, situation):
-    """What stands behind the answers that can come, question by question, if this is not settled."""
-    if is_done(case, situation):
-        return []
-    return [behind for question in case.stock.questions for told, behind in answers_on(case, situation, question)]
+class Mover:
+    """Where answers lead in a case: made once, for many situations."""
+
+    def __init__(self, case):
+        size = case.answerers * case.heaps * case.heaps
+        rows = [[OUT if entry is None else entry for entry in row] for row in case.rule.rows]
+        # What is out has the stand -1, which finds the last row: so it stays out.
+        self.rows = rows + [[OUT] * size]
+        self.places = [places_by(case, question) for question in case.stock.questions]
+
+    def behind(self, situation, number, told):
+        """The situation behind an answer."""
+        rows = self.rows
+        return tuple([rows[stand][place] for stand, place in zip(situation, self.places[number][told])])
+
+    def answers(self, situation, number):
+        """The pairs (told, what stands behind it) of the answers that can come, ascending."""
+        pairs = [(told, self.behind(situation, number, told)) for told in range(len(self.places[number]))]
+        return [(told, behind) for told, behind in pairs if is_open(behind)]
+
+
+def places_by(case, question):
+    """For each heap that may be told, for each thing, where the rows of the rule tell of this answer."""
+    return [[place_of(case.heaps, question.who, true, told) for true in question.heaps]
+            for told in range(case.heaps)]

@@ -5,15 +5,12 @@ from truthwell.case_wants import want_case_at
 from truthwell.case_wants import want_hearing
 from truthwell.case_wants import want_numbers
 from truthwell.case_wants import want_question
-from truthwell.errors import TooMany
-from truthwell.moves import all_behind
+from truthwell.met import met_from
 from truthwell.moves import answers_on
 from truthwell.moves import is_done
 from truthwell.moves import moved
 from truthwell.moves import opened
 from truthwell.rules import want_heap
-
-MOST_SITUATIONS = 4096
 
 
 def first(case):
@@ -63,20 +60,4 @@ def behind_all(case, situation, numbers, hearing):
 def come_about(case):
     """The situations that come about, in the order in which they are met."""
     want_case(case, "case")
-    return tuple(met_from(case, case.firsts))
-
-
-def met_from(case, situation):
-    """The situations that come about from one, as they are met."""
-    met = [situation]
-    seen = {situation: True}
-    at = 0
-    while at < len(met):
-        for behind in all_behind(case, met[at]):
-            if behind not in seen:
-                if len(met) == MOST_SITUATIONS:
-                    raise TooMany("situations", MOST_SITUATIONS)
-                seen[behind] = True
-                met.append(behind)
-        at += 1
-    return met
+    return tuple(met_from(case, case.firsts)[0])

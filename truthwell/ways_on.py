@@ -37,9 +37,10 @@ def reached(rule, stand):
     met = [stand]
     at = 0
     while at < len(met):
-        for triple, behind in let_at(rule, met[at]):
+        ahead = met[at]
+        for triple, behind in let_at(rule, ahead):
             if behind not in roads:
-                roads[behind] = roads[met[at]] + (triple,)
+                roads[behind] = roads[ahead] + (triple,)
                 met.append(behind)
         at += 1
     return roads
