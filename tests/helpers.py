@@ -67,6 +67,13 @@ def made_case(draws, things, answerers=1, heaps=2, stands=3, questions=2, number
     return Case(stock, rule, [draws.below(len(rule)) for _ in range(things)], wish)
 
 
+def made_cases(seed, many, things=4, answerers=2, heaps=3, stands=3, questions=3):
+    """Cases of at most so much of each: most of them for classes, some with a number as the wish."""
+    draws = Draws(seed)
+    return [made_case(draws, 1 + draws.below(things), 1 + draws.below(answerers), 2 + draws.below(heaps - 1), stands,
+                      draws.below(questions + 1), draws.below(3) == 0) for _ in range(many)]
+
+
 def end_of(rule, stand, past):
     """The stand to which a past leads; None if it is not lawful. By the rows alone."""
     for who, true, told in past:

@@ -6,7 +6,8 @@ import unittest
 
 HERE = os.path.dirname(os.path.abspath(__file__))
 MODULES = ("errors checks papers rules pasts ready joined least_rule freer order questions stocks wishes cases "
-           "changed twins two_cases situations roads").split()
+           "changed twins two_cases situations roads freer_situations fading plans depths carried pair_plans check_plans "
+           "books rings weights gaps again check_books shadows ahead mending spelled check_ahead rounds").split()
 
 
 def names_of_package():
@@ -44,7 +45,7 @@ class Examples(unittest.TestCase):
     def test_examples(self):
         names = names_of_package()
         pairs = examples()
-        self.assertEqual(len(pairs), 37)
+        self.assertEqual(len(pairs), 89)
         for line, printed in pairs:
             with self.subTest(line=line):
                 self.check(names, line, printed)

@@ -63,6 +63,38 @@ INTERFACE = {
                    "can_come": ["case", "situation", "number"], "after": ["case", "situation", "number", "told"],
                    "behind_all": ["case", "situation", "numbers", "hearing"], "come_about": ["case"]},
     "roads": {"open_by_pasts": ["case", "numbers", "hearing"], "hearings": ["case", "numbers"]},
+    "freer_situations": {"is_no_freer": ["case", "one", "other"], "least_free": ["case", "situations"]},
+    "fading": {"Fading": {"__init__": ["self", "pairs"]}, "Grows": {"__init__": ["self", "thing", "past", "more"]},
+               "fading": ["case"], "shows_fading": ["case", "value"]},
+    "plans": {"Plan": {"__init__": ["self", "table"]}, "ways": ["case", "plan"], "stopped": ["case", "plan", "most"]},
+    "depths": {"depth_of": ["case", "situation"], "depths": ["case"], "worths": ["case", "situation"], "find_plan": ["case", "most"]},
+    "carried": {"carried": ["case", "plan", "other"]},
+    "pair_plans": {"Untold": {"__init__": ["self", "group", "ring"]}, "group_depths": ["case"], "by_groups": ["case"]},
+    "check_plans": {"shows_plan": ["case", "value", "most"], "shows_untold": ["case", "value"]},
+    "books": {"Book": {"__init__": ["self", "layers"]}, "find_book": ["case", "most"], "least_book": ["case", "most"],
+              "hearing_by": ["case", "paper", "numbers"], "carried_book": ["case", "book", "other"],
+              "put_together": ["one", "book", "other", "more"]},
+    "rings": {"Ring": {"__init__": ["self", "table"]}, "find_ring": ["case"], "judged": ["case"], "unrolled": ["case", "ring", "most"]},
+    "weights": {"weight": ["rule", "stand", "answers"], "weight_of": ["case", "situation", "answers"], "room": ["case", "answers"],
+                "heaviest": ["case", "situation", "number", "answers"], "well_parted": ["case", "situation", "answers"],
+                "weighed": ["case"], "heavy_book": ["case", "most"]},
+    "gaps": {"Gap": {"__init__": ["self", "kind", "weighed", "shown"]}, "gap": ["case"]},
+    "again": {"Again": {"__init__": ["self", "number"]}, "Contrary": {"__init__": ["self", "signs", "begin"]},
+              "again": ["rule", "stand", "other"], "contrary_signs": ["rule", "stand", "other", "answers"], "truth_frees": ["rule", "stand"]},
+    "check_books": {"shows_book": ["case", "value", "most"], "shows_ring": ["case", "value"], "shows_gap": ["case", "value"],
+                    "shows_again": ["rule", "stand", "other", "value"]},
+    "shadows": {"first_shadow": ["case"], "shadow_after": ["case", "shadow", "number"], "shadow_behind": ["case", "numbers"],
+                "is_bare": ["shadow"], "is_within_shadow": ["one", "other"]},
+    "ahead": {"Enough": {"__init__": ["self", "numbers", "table"]}, "Shared": {"__init__": ["self", "group", "hearing"]},
+              "Layers": {"__init__": ["self", "layers"]}, "ShadowRing": {"__init__": ["self", "shadows"]},
+              "ahead": ["case", "numbers"], "fewest_ahead": ["case", "most"], "never_ahead": ["case"]},
+    "mending": {"mended": ["case", "numbers", "hearing"], "class_told": ["case", "numbers", "hearing"],
+                "lies_in": ["case", "numbers", "hearing", "thing"], "lies_told": ["case", "numbers", "hearing"]},
+    "spelled": {"spellings": ["case", "numbers"], "parted_at": ["case", "numbers"]},
+    "check_ahead": {"shows_enough": ["case", "value", "most"], "shows_shared": ["case", "numbers", "value"],
+                    "shows_layers": ["case", "most", "value"], "shows_shadow_ring": ["case", "value"]},
+    "rounds": {"RoundPlan": {"__init__": ["self", "table"]}, "turned_into": ["case", "cloud", "number"], "clouds": ["case", "rounds"],
+               "least_in_rounds": ["case", "rounds"]},
 }
 
 
@@ -213,6 +245,65 @@ class Language(unittest.TestCase):
         self.assertFalse((read & builtin) - set(METHODS) - {"__init__", "add"})
         self.assertFalse(read - own - builtin, "read, but never assigned")
         self.assertFalse({"add", "keys", "sort"} & own)
+
+    def test_methods_and_attributes(self):
+        methods, attributes = set(), set()
+        for name, text, tree in self.each():
+            for node in ast.walk(tree):
+                if isinstance(node, ast.ClassDef):
+                    methods |= {item.name for item in node.body if isinstance(item, ast.FunctionDef)}
+                    attributes |= {item.attr for item in ast.walk(node) if isinstance(item, ast.Attribute) and isinstance(item.ctx, ast.Store)}
+        # The document asks for both of this one: a method of questions, an attribute of papers.
+        self.assertEqual(methods & attributes, {"parts"})
+
+    def test_generators(self):
+        functions = [(name, node) for name, text, tree in self.each() for node in ast.walk(tree) if isinstance(node, ast.FunctionDef)]
+        yielding = [node.name for name, node in functions if any(isinstance(item, (ast.Yield, ast.YieldFrom)) for item in ast.walk(node))]
+        for one in yielding:
+            self.assertEqual([node.name for name, node in functions].count(one), 1)
+            for name, text, tree in self.each():
+                for node in ast.walk(tree):
+                    self.assertFalse(isinstance(node, ast.Name) and node.id == one, f"{one} is used in {name}")
+
+    def test_loops(self):
+        """What a loop goes over is not changed in it."""
+        changing = ("append", "extend", "insert", "pop", "remove", "clear", "setdefault", "update", "reverse", "add", "discard")
+        for name, text, tree in self.each():
+            for node in ast.walk(tree):
+                if not isinstance(node, (ast.For, ast.ListComp, ast.DictComp, ast.SetComp)):
+                    continue
+                over = [node.iter] if isinstance(node, ast.For) else [part.iter for part in node.generators]
+                names = {ast.unparse(item) for one in over for item in ast.walk(one) if isinstance(item, (ast.Name, ast.Attribute))}
+                body = node.body if isinstance(node, ast.For) else [node.elt] if not isinstance(node, ast.DictComp) else [node.key, node.value]
+                for item in [item for part in body for item in ast.walk(part)]:
+                    if isinstance(item, ast.Call) and isinstance(item.func, ast.Attribute) and item.func.attr in changing:
+                        self.assertNotIn(ast.unparse(item.func.value), names, f"{name}: {ast.unparse(node)}")
+                    if isinstance(item, ast.Subscript) and isinstance(item.ctx, ast.Store):
+                        self.assertNotIn(ast.unparse(item.value), names, f"{name}: {ast.unparse(node)}")
+
+    def test_comprehensions(self):
+        """A variable of a comprehension in a nested function, or in another comprehension, is not one from further out."""
+        kinds = (ast.ListComp, ast.DictComp, ast.SetComp)
+
+        def variables(node):
+            return {item.id for part in node.generators for item in ast.walk(part.target) if isinstance(item, ast.Name)}
+
+        def assigned(function):
+            own = {arg.arg for arg in function.args.args}
+            return own | {item.id for item in ast.walk(function) if isinstance(item, ast.Name) and isinstance(item.ctx, ast.Store)}
+
+        for name, text, tree in self.each():
+            for node in ast.walk(tree):
+                if isinstance(node, ast.FunctionDef):
+                    for inner in [item for item in ast.walk(node) if isinstance(item, ast.FunctionDef) and item is not node]:
+                        around = assigned(node) - assigned(inner)
+                        for item in ast.walk(inner):
+                            if isinstance(item, kinds):
+                                self.assertFalse(variables(item) & around, f"{name}: {inner.name}")
+                if isinstance(node, kinds):
+                    for item in ast.walk(node):
+                        if isinstance(item, kinds) and item is not node:
+                            self.assertFalse(variables(item) & variables(node), f"{name}: {ast.unparse(node)}")
 
     def test_sets(self):
         for name, text, tree in self.each():

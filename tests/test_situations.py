@@ -2,7 +2,6 @@
 
 import time
 import unittest
-from itertools import combinations
 from itertools import product
 
 from truthwell.cases import Case
@@ -32,48 +31,14 @@ from truthwell.wishes import Wish
 
 from helpers import BIG
 from helpers import Checks
-from helpers import Draws
 from helpers import ODD
 from helpers import end_of
-from helpers import made_case
+from helpers import made_cases
+from plain import all_met
+from plain import behind
+from plain import settled
 
 RUNS = Case.alike(Stock(2, 1, 2, [Question(0, [0, 1])]), never_running(), Wish.each(2))
-
-
-def made_cases(seed, many):
-    draws = Draws(seed)
-    return [made_case(draws, 1 + draws.below(4), 1 + draws.below(2), 2 + draws.below(2), 3, draws.below(4), draws.below(3) == 0)
-            for _ in range(many)]
-
-
-def groups_of(case):
-    """By the words of the document."""
-    things = range(case.things)
-    if case.wish.classes is None:
-        return list(combinations(things, case.wish.most + 1))
-    return [(x, y) for x, y in combinations(things, 2) if case.wish.classes[x] != case.wish.classes[y]]
-
-
-def settled(case, situation):
-    return not any(all(situation[x] != -1 for x in group) for group in groups_of(case))
-
-
-def behind(case, situation, question, told):
-    """By the rows of the rule."""
-    ends = [-1 if s == -1 else end_of(case.rule, s, [(question.who, question.heaps[x], told)]) for x, s in enumerate(situation)]
-    return tuple(-1 if end is None else end for end in ends)
-
-
-def all_met(case):
-    met = [case.firsts]
-    for situation in met:
-        if not settled(case, situation):
-            for question in case.stock:
-                for told in range(case.heaps):
-                    new = behind(case, situation, question, told)
-                    if max(new) >= 0 and new not in met:
-                        met.append(new)
-    return tuple(met)
 
 
 class Situations(Checks, unittest.TestCase):
