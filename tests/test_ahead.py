@@ -53,6 +53,7 @@ from plain import all_hearings
 from plain import bare
 from plain import fades
 from plain import first_shadow_of
+from plain import freer_pairs
 from plain import groups_of
 from plain import inside
 from plain import is_enough
@@ -363,6 +364,44 @@ class Facts(Checks, unittest.TestCase):
                 self.assertEqual(never_ahead(case) is None, all(alone))
                 many += 1
         self.assertGreater(many, 30)
+
+    def test_lists_behind_one_another(self):
+        """In a case that fades, lists that are enough for each group are together enough for all."""
+        many = 0
+        for case in cases():
+            alone = [self.alone(case, group) for group in groups_of(case)]
+            if all(fades(case)) and all(alone) and sum(len(found.numbers) for found in alone) < 11:
+                try:
+                    self.assertTrue(ahead(case, [number for found in alone for number in found.numbers]))
+                    self.assertTrue(ahead(case, [number for found in alone[::-1] for number in found.numbers]))
+                except TooMany as error:
+                    self.assertEqual(error.what, "hearings")
+                many += 1
+        self.assertGreater(many, 30)
+
+    def alone(self, case, group):
+        """The fewest questions for the things of a group alone, if some are enough."""
+        things = [x for x in range(case.things) if x in group]
+        stock = [Question(q.who, [q.heaps[x] for x in things]) for q in case.stock]
+        part = narrowed(case, things)
+        found = fewest_ahead(part, 6)
+        if found:
+            # Of questions that are alike about these things the first one stands for all.
+            return Enough([stock.index(part.stock[number]) for number in found.numbers], found.table)
+        return found
+
+    def test_less_free_first_stands(self):
+        draws = Draws(310)
+        many = 0
+        for case in cases():
+            pairs = freer_pairs(case.rule, case.rule)
+            firsts = [draws.pick([s for s in range(len(case.rule)) if (s, first) in pairs]) for first in case.firsts]
+            other = Case(case.stock, case.rule, firsts, case.wish)
+            for numbers in list(all_lists(case, 3))[:40]:
+                if ahead(case, numbers):
+                    many += firsts != list(case.firsts)
+                    self.assertTrue(ahead(other, numbers))
+        self.assertGreater(many, 10)
 
     def test_two_cases(self):
         """Of two cases, each with answerers of its own, the fewest are just the sum."""

@@ -125,6 +125,25 @@ class Carried(Checks, unittest.TestCase):
         other = Case(loose.stock, Rule.read("1 2 | 0 1 1 0 | 1 - - 1"), [1, 1, 0], loose.wish)
         self.raises(NotFreer(2), carried, Case.alike(loose.stock, truthful(), loose.wish), find_plan(Case.alike(loose.stock, truthful(), loose.wish)), other)
 
+    def test_one_situation_for_several(self):
+        """What is left under a narrower rule may be met with several situations of the plan: the least rank counts."""
+        draws = Draws(244)
+        rules = [truthful(), at_most(1), at_most(2), one_in(2), one_in(3), one_in(4), never_running()]
+        many = 0
+        for stock, wish in ((Stock.splits(3), Wish.each(3)), (Stock.singles(3), Wish.each(3)), (Stock.splits(4), Wish.each(4)), (Stock.singles(4), Wish.left(2))):
+            for rule in rules:
+                case = Case.alike(stock, rule, wish)
+                plans = [] if depth_of(case) is None else [find_plan(case), looser(case, draws), looser(case, draws), looser(case, draws)]
+                for less in rules:
+                    other = Case.alike(stock, less, wish)
+                    for plan in plans if not first_unlike(case, other) else []:
+                        depth = [rank for situation, rank, number in plan.table if situation == case.firsts][0]
+                        found = carried(case, plan, other)
+                        many += 1
+                        self.assertTrue(right_plan(other, found.table, depth))
+                        self.assertEqual([row[0] for row in found.table], led_by(other, found.table))
+        self.assertGreater(many, 100)
+
     def test_settled_here_alone(self):
         first = Case(Stock.splits(2), Rule.read("1 2 | 0 - - 0 | - 1 1 -"), [0, 1], Wish.each(2))
         plan = find_plan(first)

@@ -253,6 +253,13 @@ class ShowsUntold(Checks, unittest.TestCase):
         self.odd(lambda value: shows_untold(value, right), lambda value: BadCase("case"))
         self.assertIs(shows_untold(case=RUNS, value=right), True)
 
+    def test_all_bends(self):
+        for case in (RUNS, Case.alike(Stock(2, 1, 3, [Question(0, [0, 2])]), never_running(1, 3), Wish.each(2))):
+            right = by_groups(case)
+            for bent in bends(right.parts):
+                if isinstance(bent, tuple) and len(bent) == 2:
+                    self.assertIs(shows_untold(case, Untold(*bent)), right_untold(case, *bent), bent)
+
     def test_no_questions(self):
         empty = Case.alike(Stock(3, 1, 2, []), truthful(), Wish.left(1))
         self.assertEqual(by_groups(empty), Untold((0, 1), [((0, 0, -1), ())]))

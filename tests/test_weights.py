@@ -198,6 +198,9 @@ class Weights(Checks, unittest.TestCase):
         self.assertEqual(weighed(Case.alike(Stock(2, 1, 2, []), truthful(), Wish.each(2))), 1)
         for lies, wanted in ((5, 11), (6, None)):
             self.assertEqual(weighed(Case.alike(Stock.splits(2), at_most(lies), Wish.each(2))), wanted)
+        # For 12 answers there is room just here; for the others just for 13.
+        for things, wish, lies, wanted in ((5, Wish.each(5), 4, 12), (6, Wish.each(6), 4, None), (3, Wish.left(2), 6, 12), (4, Wish.left(2), 6, None)):
+            self.assertEqual(weighed(Case.alike(Stock.singles(things), at_most(lies), wish)), wanted)
 
     def test_heavy_book(self):
         many = 0
@@ -319,6 +322,14 @@ class Gaps(Checks, unittest.TestCase):
             self.assertIs(shows_gap(settled, Gap(kind, 0, Book([[]]))), False)
             self.assertIs(shows_gap(settled, Gap(kind, 0, Ring([]))), False)
             self.assertIs(shows_gap(Case.alike(Stock.splits(2), anything(), Wish.each(2)), Gap(kind, None, Ring([]))), False)
+
+    def test_nothing_weighed(self):
+        """Where no number is weighed nothing is a gap, whatever is shown."""
+        free = Case.alike(Stock.splits(2), anything(), Wish.each(2))
+        for kind in ("never", "here", "later"):
+            for least in (None, 0, 1, 12, 13):
+                self.assertIs(shows_gap(free, Gap(kind, least, find_ring(free))), False)
+                self.assertIs(shows_gap(free, Gap(kind, least, find_book(free, 12))), False)
 
     def test_too_many(self):
         big = Case.alike(Stock(2, 1, 2, [Question(0, [0, 1])]), at_most(63), Wish.each(2))

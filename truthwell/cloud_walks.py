@@ -26,9 +26,10 @@ class Sky:
         self.turns = []
         self.meet((self.number_of(case.firsts),))
         while len(self.turns) < len(self.clouds):
-            self.turn(self.clouds[len(self.turns)])
+            cloud = self.clouds[len(self.turns)]
+            self.turn(cloud)
             if rounds > 1:
-                self.meet_alone(self.clouds[len(self.turns) - 1])
+                self.meet_alone(cloud)
 
     def turn(self, cloud):
         """Meets what each question turns a cloud into."""

@@ -92,8 +92,8 @@ def first_signs(steps, most, pair, answers):
 
 
 def are_signs(value):
-    """Whether a value is a string of one sign or more."""
-    return isinstance(value, str) and len(value) > 0 and all([sign in (TRUTH, LIE) for sign in value])
+    """Whether a value is a string of signs."""
+    return isinstance(value, str) and all([sign in (TRUTH, LIE) for sign in value])
 
 
 def contrary_of(signs):
