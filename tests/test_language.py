@@ -128,6 +128,60 @@ def top_names(tree):
     return imports, classes, others
 
 
+CHANGING = ("append", "extend", "insert", "pop", "remove", "clear", "setdefault", "update", "reverse", "add", "discard")
+
+
+def other_names(function):
+    """For each name of a function all names that plain assignments make names of the same value."""
+    groups = {}
+    for node in ast.walk(function):
+        if isinstance(node, ast.Assign) and isinstance(node.value, (ast.Name, ast.Attribute)):
+            told = {ast.unparse(target) for target in node.targets} | {ast.unparse(node.value)}
+            for one in list(told):
+                told |= groups.get(one, set())
+            for one in told:
+                groups[one] = told
+    return groups
+
+
+def bases(node):
+    """The names and attributes from which a value is reached by items: of a[b].c[d] both a[b].c and a."""
+    found = set()
+    while isinstance(node, (ast.Subscript, ast.Attribute)):
+        if isinstance(node, ast.Attribute):
+            found.add(ast.unparse(node))
+        node = node.value
+    return found | ({node.id} if isinstance(node, ast.Name) and node.id != "self" else set())
+
+
+def walked_by(node):
+    """What a loop or a comprehension goes over."""
+    over = [node.iter] if isinstance(node, ast.For) else [part.iter for part in node.generators]
+    found = set()
+    for one in over:
+        if isinstance(one, ast.Call) and isinstance(one.func, ast.Name) and one.func.id in ("list", "sorted", "range", "tuple"):
+            continue
+        for item in ast.walk(one):
+            if isinstance(item, (ast.Name, ast.Attribute)):
+                found |= {ast.unparse(item)} | bases(item)
+    return found - {"self"}
+
+
+def changed_by(node):
+    """What is changed within a loop or a comprehension."""
+    if isinstance(node, ast.For):
+        body = node.body
+    else:
+        body = [node.key, node.value] if isinstance(node, ast.DictComp) else [node.elt]
+    found = set()
+    for item in [item for part in body for item in ast.walk(part)]:
+        if isinstance(item, ast.Call) and isinstance(item.func, ast.Attribute) and item.func.attr in CHANGING:
+            found |= bases(item.func.value)
+        if isinstance(item, ast.Subscript) and isinstance(item.ctx, (ast.Store, ast.Del)):
+            found |= bases(item.value)
+    return found
+
+
 class Language(unittest.TestCase):
     def setUp(self):
         self.sources = sources()
@@ -266,20 +320,28 @@ class Language(unittest.TestCase):
                     self.assertFalse(isinstance(node, ast.Name) and node.id == one, f"{one} is used in {name}")
 
     def test_loops(self):
-        """What a loop goes over is not changed in it."""
-        changing = ("append", "extend", "insert", "pop", "remove", "clear", "setdefault", "update", "reverse", "add", "discard")
+        """What a loop goes over is not changed in it, neither by its name nor by another name of it."""
         for name, text, tree in self.each():
-            for node in ast.walk(tree):
-                if not isinstance(node, (ast.For, ast.ListComp, ast.DictComp, ast.SetComp)):
-                    continue
-                over = [node.iter] if isinstance(node, ast.For) else [part.iter for part in node.generators]
-                names = {ast.unparse(item) for one in over for item in ast.walk(one) if isinstance(item, (ast.Name, ast.Attribute))}
-                body = node.body if isinstance(node, ast.For) else [node.elt] if not isinstance(node, ast.DictComp) else [node.key, node.value]
-                for item in [item for part in body for item in ast.walk(part)]:
-                    if isinstance(item, ast.Call) and isinstance(item.func, ast.Attribute) and item.func.attr in changing:
-                        self.assertNotIn(ast.unparse(item.func.value), names, f"{name}: {ast.unparse(node)}")
-                    if isinstance(item, ast.Subscript) and isinstance(item.ctx, ast.Store):
-                        self.assertNotIn(ast.unparse(item.value), names, f"{name}: {ast.unparse(node)}")
+            for function in ast.walk(tree):
+                if isinstance(function, ast.FunctionDef):
+                    others = other_names(function)
+                    for node in ast.walk(function):
+                        if isinstance(node, (ast.For, ast.ListComp, ast.DictComp, ast.SetComp)):
+                            walked = {other for told in walked_by(node) for other in others.get(told, {told})}
+                            self.assertFalse(walked & changed_by(node), f"{name}: {ast.unparse(node)}")
+
+    def test_loops_are_looked_at(self):
+        def found(text):
+            function = ast.parse(text).body[0]
+            others = other_names(function)
+            loops = [node for node in ast.walk(function) if isinstance(node, ast.For)]
+            return any({other for told in walked_by(node) for other in others.get(told, {told})} & changed_by(node) for node in loops)
+
+        self.assertTrue(found("def f(xs):\n    for x in xs:\n        xs.append(x)"))
+        self.assertTrue(found("def f(d):\n    for x in d.rows:\n        d.rows[x] = 1"))
+        self.assertTrue(found("def f(xs):\n    while xs:\n        ys = []\n        for x in xs:\n            ys.append(x)\n        xs = ys"))
+        self.assertTrue(found("def f(d):\n    for x in d[0]:\n        d[1][x] -= 1"))
+        self.assertFalse(found("def f(xs):\n    while xs:\n        ys = []\n        for x in xs:\n            ys.append(x)\n        xs = list(ys)"))
 
     def test_comprehensions(self):
         """A variable of a comprehension in a nested function, or in another comprehension, is not one from further out."""

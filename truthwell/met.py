@@ -61,14 +61,14 @@ def least_depths(steps):
     depth = 0
     while level:
         depth += 1
+        told = [pair for behind in level for pair in ahead[behind]]
         found = []
-        for behind in level:
-            for number, question in ahead[behind]:
-                awaited[number][question] -= 1
-                if awaited[number][question] == 0 and depths[number] is None:
-                    depths[number] = depth
-                    found.append(number)
-        level = found
+        for number, question in told:
+            awaited[number][question] -= 1
+            if awaited[number][question] == 0 and depths[number] is None:
+                depths[number] = depth
+                found.append(number)
+        level = list(found)
     return depths
 
 
