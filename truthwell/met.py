@@ -1,11 +1,7 @@
 """The situations that come about from one, numbered as they are met, and their least depths."""
 
-from truthwell.errors import TooMany
-from truthwell.moves import Mover
+from truthwell.half_walks import Walk
 from truthwell.moves import is_done
-from truthwell.moves import is_open
-
-MOST_SITUATIONS = 4096
 
 
 class Solved:
@@ -21,32 +17,15 @@ def met_from(case, situation):
     question, for each heap the number of what stands behind this answer, None for one that cannot
     come. For a settled situation there is None in the place of all this.
     """
-    mover = Mover(case)
-    questions = range(len(case.stock.questions))
-    heaps = range(case.heaps)
-    met = [situation]
-    numbers = {situation: 0}
+    walk = Walk(case, situation)
     steps = []
-    while len(steps) < len(met):
-        ahead = met[len(steps)]
-        if is_done(case, ahead):
+    while len(steps) < len(walk.met):
+        if is_done(case, walk.met[len(steps)]):
             steps.append(None)
         else:
-            steps.append([[number_of(mover.behind(ahead, number, told), numbers, met) for told in heaps]
-                          for number in questions])
-    return met, steps
-
-
-def number_of(situation, numbers, met):
-    """The number of a situation, which is met now if it was not before; None if nothing is open in it."""
-    if not is_open(situation):
-        return None
-    if situation not in numbers:
-        if len(met) == MOST_SITUATIONS:
-            raise TooMany("situations", MOST_SITUATIONS)
-        numbers[situation] = len(met)
-        met.append(situation)
-    return numbers[situation]
+            found = walk.behind(len(steps))
+            steps.append([found[at:at + case.heaps] for at in range(0, len(found), case.heaps)])
+    return walk.met, steps
 
 
 def least_depths(steps):
