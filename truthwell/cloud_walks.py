@@ -1,4 +1,4 @@
-"""The clouds that come about, and the least costs of rounds."""
+"""The clouds that come about."""
 
 from truthwell.errors import TooMany
 from truthwell.moves import Mover
@@ -74,56 +74,3 @@ class Sky:
     def unfolded(self):
         """The clouds by their situations, ascending."""
         return sorted([tuple(sorted([self.situations[number] for number in cloud])) for cloud in self.clouds])
-
-
-def least_cost(sky, rounds):
-    """The least cost with which so many rounds settle the first situation; None for never."""
-    ahead = clouds_ahead(sky.turns)
-    costs = [0 if is_settled else None for is_settled in sky.settled]
-    for _ in range(rounds):
-        found = costs_of_clouds(sky, ahead, costs)
-        better = [cost_alone(sky, found, number, cost) for number, cost in enumerate(costs)]
-        # What one round more makes no cheaper, none does.
-        if better == costs:
-            break
-        costs = better
-    return costs[0]
-
-
-def cost_alone(sky, found, number, cost):
-    """The cost of the cloud of a situation alone; of one that has none, its cost stays."""
-    return found[sky.places[(number,)]] if (number,) in sky.places else cost
-
-
-def costs_of_clouds(sky, ahead, costs):
-    """For each cloud the least cost from it on, where the round may end in it or behind more questions, and
-    these are the costs of the situations with a round less. Told from the least ones.
-    """
-    found = [greatest([costs[number] for number in cloud]) for cloud in sky.clouds]
-    waiting = {}
-    for at, cost in enumerate(found):
-        if cost is not None:
-            waiting.setdefault(cost, []).append(at)
-    while waiting:
-        cost = min(list(waiting))
-        level = waiting.pop(cost)
-        formers = [former for at in level if found[at] == cost for former in ahead[at]]
-        for former in formers:
-            if found[former] is None or found[former] > cost + 1:
-                found[former] = cost + 1
-                waiting.setdefault(cost + 1, []).append(former)
-    return found
-
-
-def greatest(costs):
-    """The greatest of some costs; None, for never, is greater than all."""
-    return None if None in costs else max(costs)
-
-
-def clouds_ahead(turns):
-    """For each cloud those which some question turns into it."""
-    ahead = [[] for _ in turns]
-    for at, row in enumerate(turns):
-        for behind in row:
-            ahead[behind].append(at)
-    return ahead

@@ -4,13 +4,13 @@ from truthwell.case_wants import is_situation
 from truthwell.case_wants import want_case
 from truthwell.case_wants import want_question
 from truthwell.cloud_walks import Sky
-from truthwell.cloud_walks import least_cost
 from truthwell.errors import BadSituation
 from truthwell.lists import is_list
 from truthwell.lists import want_number
 from truthwell.moves import Mover
 from truthwell.moves import is_open
 from truthwell.papers import Paper
+from truthwell.round_costs import RoundCosts
 
 
 class RoundPlan(Paper):
@@ -50,4 +50,4 @@ def least_in_rounds(case, rounds):
     """The least cost of at most so many rounds; None for never."""
     want_case(case, "case")
     want_number(rounds, 1, None, "rounds")
-    return least_cost(Sky(case, rounds), rounds)
+    return RoundCosts(Sky(case, rounds), rounds).least_cost(rounds)

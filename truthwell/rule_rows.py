@@ -32,6 +32,11 @@ def want_live(stand, row, heaps):
             raise Dead(stand, who, true)
 
 
+def is_live(rows, heaps):
+    """Whether at each stand something is let for each answerer and true heap."""
+    return not any([is_shut(row[at:at + heaps]) for row in rows for at in range(0, len(row), heaps)])
+
+
 def is_shut(entries):
     """Whether all of these entries are barred."""
     return all([entry is None for entry in entries])
