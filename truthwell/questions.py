@@ -32,8 +32,7 @@ class Question:
     def read(cls, text):
         """The question whose text this is."""
         words = Words(text)
-        who = words.take_number(0, MOST_ANSWERERS - 1)
-        heaps = words.take_digits(1, MOST_THINGS, MOST_HEAPS)
+        who, heaps = read_question(words)
         words.end()
         return cls(who, heaps)
 
@@ -52,6 +51,11 @@ class Question:
 
     def __str__(self):
         return f"{self.who} {heaps_word(self.heaps)}"
+
+
+def read_question(words):
+    """The answerer and the heaps of the question whose words stand here."""
+    return words.take_number(0, MOST_ANSWERERS - 1), words.take_digits(1, MOST_THINGS, MOST_HEAPS)
 
 
 def heaps_word(heaps):

@@ -35,9 +35,7 @@ class Rule:
     def read(cls, text):
         """The rule whose text this is."""
         words = Words(text)
-        answerers = words.take_number(1, 4)
-        heaps = words.take_number(2, 3)
-        rows = read_rows(words, answerers, heaps, cls.MOST)
+        answerers, heaps, rows = read_rule(words)
         words.end()
         return cls(answerers, heaps, rows)
 
@@ -67,6 +65,13 @@ class Rule:
 
     def __str__(self):
         return " ".join(rule_words(self.answerers, self.heaps, self.rows))
+
+
+def read_rule(words):
+    """The answerers, the heaps and the rows of the rule whose words stand here."""
+    answerers = words.take_number(1, 4)
+    heaps = words.take_number(2, 3)
+    return answerers, heaps, read_rows(words, answerers, heaps, Rule.MOST)
 
 
 def want_stand(rule, stand):

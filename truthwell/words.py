@@ -1,6 +1,7 @@
 """Texts are read word by word, so that the first word that cannot stand is known."""
 
 from truthwell.checks import DIGITS
+from truthwell.checks import is_within
 from truthwell.errors import BadText
 
 MOST_DIGITS = 60
@@ -44,10 +45,24 @@ class Words:
             self.refuse()
         self.at += 1
 
+    def take_one(self, table):
+        """The word of a table that must stand here."""
+        if not self.is_left() or self.words[self.at] not in table:
+            self.refuse()
+        self.at += 1
+        return self.words[self.at - 1]
+
+    def take_fit(self, is_fit):
+        """The word, one that a function tells to be fit, that must stand here."""
+        if not self.is_left() or not is_fit(self.words[self.at]):
+            self.refuse()
+        self.at += 1
+        return self.words[self.at - 1]
+
     def take_number(self, least, most):
-        """The integer, from least to most, that must stand here."""
+        """The integer, from least to most, that must stand here; None stands for no bound."""
         found = integer_of(self.words[self.at]) if self.is_left() else None
-        if found is None or not least <= found <= most:
+        if not is_within(found, least, most):
             self.refuse()
         self.at += 1
         return found
