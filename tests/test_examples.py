@@ -7,7 +7,9 @@ import unittest
 HERE = os.path.dirname(os.path.abspath(__file__))
 MODULES = ("errors checks papers rules pasts ready joined least_rule freer order questions stocks wishes cases "
            "changed twins two_cases situations roads freer_situations fading plans depths carried pair_plans check_plans "
-           "books rings weights gaps again check_books shadows ahead mending spelled check_ahead rounds").split()
+           "books rings weights gaps again check_books shadows ahead mending spelled check_ahead rounds "
+           "round_books prices fronts check_rounds answerers whom untold bars check_bars evenings late told broken doubted stories "
+           "paper_kinds paper_texts reader whole desk").split()
 
 
 def names_of_package():
@@ -45,7 +47,7 @@ class Examples(unittest.TestCase):
     def test_examples(self):
         names = names_of_package()
         pairs = examples()
-        self.assertEqual(len(pairs), 89)
+        self.assertEqual(len(pairs), 150)
         for line, printed in pairs:
             with self.subTest(line=line):
                 self.check(names, line, printed)
