@@ -106,13 +106,15 @@ class HeldClouds:
         self.case = case
         self.mover = Mover(case)
         self.many = len(case.stock.questions)
-        self.known = {}
+        known = {}
         for cloud, rounds, questions in rows:
-            self.known.setdefault(cloud, []).append((rounds, questions))
+            known.setdefault(cloud, []).append((rounds, questions))
         # A cloud lies within another one only if its last situation is there: so it is kept at this.
-        self.ends = {}
-        for cloud in self.known:
-            self.ends.setdefault(cloud[-1], []).append(cloud)
+        ends = {}
+        for cloud in list(known):
+            ends.setdefault(cloud[-1], []).append(cloud)
+        self.known = known
+        self.ends = ends
         self.turns = {}
 
     def has(self, cloud, rounds, questions):

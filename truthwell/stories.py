@@ -28,7 +28,8 @@ def replay(case, story):
     if not are_deeds(story):
         raise BadStory("story")
     evening = Evening(case)
-    for place, deed in enumerate(story):
+    deeds = [tuple(deed) for deed in story]
+    for place, deed in enumerate(deeds):
         try:
             evening.tell(deed)
         except WellError:
