@@ -1,5 +1,6 @@
 """Desks: values by names, and lines that are told."""
 
+from truthwell.checks import is_name
 from truthwell.desk_deeds import done
 from truthwell.desk_deeds import is_changing
 from truthwell.desk_looks import looked
@@ -10,7 +11,6 @@ from truthwell.errors import NoDeed
 from truthwell.errors import NoName
 from truthwell.errors import WellError
 from truthwell.evenings import Evening
-from truthwell.checks import is_name
 from truthwell.lists import is_list
 
 

@@ -17,8 +17,9 @@ class RoundCosts:
         while (rounds is None or len(self.costs) <= rounds) and not self.is_steady():
             costs = self.costs[-1]
             found = costs_of_clouds(sky, ahead, costs)
+            better = [cost_alone(sky, found, number, cost) for number, cost in enumerate(costs)]
             self.of_clouds.append(found)
-            self.costs.append([cost_alone(sky, found, number, cost) for number, cost in enumerate(costs)])
+            self.costs.append(better)
 
     def is_steady(self):
         """Whether the last round made nothing cheaper: then none behind it does."""
